@@ -1,0 +1,1 @@
+"""Foursfold: commands that merge by twos."""

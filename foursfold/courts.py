@@ -1,0 +1,139 @@
+"""Verdicts on mergers: whether it matters which neighbours merge first."""
+
+from itertools import product
+
+from foursfold.errors import Refused, Uneven
+from foursfold.mergers import check_queue
+
+KINDS = ("middle", "left", "right")
+
+
+def hand_triples(merger):
+    """The ascending threes of which either two merge, but never all."""
+    rows = merger.rows
+    triples = []
+    for one, row in enumerate(rows):
+        for middle, ahead in enumerate(row):
+            # If two of three go, the third one is left: then all three merge.
+            if ahead is None or ahead == -1:
+                continue
+            for other, behind in enumerate(rows[middle]):
+                if behind is not None and rows[ahead][other] is None:
+                    triples.append((one, middle, other))
+    return tuple(triples)
+
+
+def four_kind(merger, queue):
+    """The kind of a queue of four whose folded queues are not equally long."""
+    commands = check_queue(merger, queue)
+    if len(commands) != 4:
+        raise Refused(queue)
+    return _kind_of(merger.rows, commands)
+
+
+def _kind_of(rows, four):
+    """The kind of a checked queue of four, or None."""
+    one, ahead, behind, other = four
+    middle = rows[ahead][behind]
+    # Unless the two in the middle merge, no two merges overlap; and if they
+    # go, it does not matter which of the two is made.
+    if middle is None or middle == -1:
+        return None
+    merges_one = rows[one][ahead] is not None
+    merges_other = rows[behind][other] is not None
+    # In a sound merger these tell of all three, from either side.
+    all_ahead = rows[one][middle] is not None
+    all_behind = rows[middle][other] is not None
+    if merges_one and merges_other and not all_ahead and not all_behind:
+        return "middle"
+    if merges_other and all_ahead and not merges_one and not all_behind:
+        return "left"
+    if merges_one and all_behind and not merges_other and not all_ahead:
+        return "right"
+    return None
+
+
+def uneven_fours(merger):
+    """The ascending pairs (queue, kind) of all queues of four with a kind."""
+    numbers = list(range(merger.commands))
+    pairs = []
+    for four in product(numbers, numbers, numbers, numbers):
+        kind = _kind_of(merger.rows, four)
+        if kind is not None:
+            pairs.append((four, kind))
+    return tuple(pairs)
+
+
+def uneven_four(merger):
+    """(kind, queue) of the first queue of four with a kind, or None."""
+    numbers = list(range(merger.commands))
+    for four in product(numbers, numbers, numbers, numbers):
+        kind = _kind_of(merger.rows, four)
+        if kind is not None:
+            return kind, four
+    return None
+
+
+def four_numbers(merger):
+    """How many queues of four there are of each kind, by KINDS."""
+    kinds = [kind for _, kind in uneven_fours(merger)]
+    return tuple([kinds.count(kind) for kind in KINDS])
+
+
+def is_even(merger):
+    """Whether all folded queues of each queue are equally long."""
+    return uneven_four(merger) is None
+
+
+def need_even(merger):
+    """The merger itself if it is even; Uneven for any other."""
+    found = uneven_four(merger)
+    if found is not None:
+        raise Uneven(found[1])
+    return merger
+
+
+def single_three(merger):
+    """The least queue of three with two folded queues, or None."""
+    for three in hand_triples(merger):
+        ahead, behind = _hand_pairs(merger, three)
+        if ahead != behind:
+            return three
+    return None
+
+
+def _hand_pairs(merger, three):
+    """Both folded queues of a triple of hand_triples."""
+    one, middle, other = three
+    return (merger.rows[one][middle], other), (one, merger.rows[middle][other])
+
+
+def is_single(merger):
+    """Whether each queue has one folded queue."""
+    return single_three(merger) is None
+
+
+def bag_queue(merger):
+    """The first queue with two folded queues of unlike bags, or None."""
+    for three in hand_triples(merger):
+        ahead, behind = _hand_pairs(merger, three)
+        if sorted(ahead) != sorted(behind):
+            return three
+    # If no three have unlike bags, a four has them only if its folded queues
+    # are not equally long: where two of its ways part, their queues have one
+    # bag, and keep one if both merge further, or neither does.
+    found = uneven_four(merger)
+    return None if found is None else found[1]
+
+
+def merger_word(merger):
+    """The first of the words for a merger that is so."""
+    if not is_even(merger):
+        return "uneven"
+    if len(hand_triples(merger)) == 0:
+        return "clear"
+    if is_single(merger):
+        return "single"
+    if bag_queue(merger) is None:
+        return "bag"
+    return "even"

@@ -1,0 +1,228 @@
+"""Points 1, 2 and 3, and the interface: what holds for everything."""
+
+import importlib
+import inspect
+import unittest
+from copy import deepcopy
+
+from foursfold import courts, errors, folding, machines, mergers, queues, stories, stretches, texts, views
+from foursfold.mergers import Merger
+
+from plainly import Drawn
+from samples import CELL, HANDED, HURRIED, SUMS, TURNS, sums_to, two_ends
+from wrong import ErrorChecks, alike, any_values, no_lists
+
+INTERFACE = {
+    "errors": {
+        "FoldError": None, "BadMerger": "at", "Unsound": "three", "Uneven": "four", "BadQueue": "at", "BadWay": "at",
+        "BadHouse": "at", "BadText": "at", "Refused": "at", "PaperFault": "at", "TooGreat": "most",
+        "NoCommand": "command",
+    },
+    "mergers": {
+        "Merger": "rows", "merged": "merger one other", "three_ends": "merger one middle other",
+        "check_queue": "merger value", "mergeable_places": "merger queue", "is_folded": "merger queue",
+        "mirror_merger": "merger", "named_merger": "merger names", "part_merger": "merger commands",
+        "beside_mergers": "one other",
+    },
+    "machines": {"check_machine": "value", "done_table": "tables queue", "machine_merger": "tables"},
+    "views": {
+        "unlike_pairs": "merger value", "check_view": "merger value", "viewed_merger": "merger view",
+        "coarsest_view": "merger", "finest_view": "merger pairs",
+    },
+    "texts": {
+        "merger_text": "merger", "read_merger": "text", "queue_text": "merger queue", "read_queue": "merger text",
+    },
+    "queues": {"fold_at": "merger queue place", "way_end": "merger queue way"},
+    "stretches": {
+        "comes_to": "merger queue first last", "one_way": "merger queue end", "fewest_left": "merger queue",
+        "most_left": "merger queue", "fewest_way": "merger queue", "most_way": "merger queue",
+    },
+    "folding": {
+        "plain_fold": "merger queue", "plain_way": "merger queue", "losing_four": "merger",
+        "folded_total": "merger queue", "folded_queues": "merger queue * most",
+    },
+    "courts": {
+        "hand_triples": "merger", "four_kind": "merger queue", "uneven_fours": "merger", "uneven_four": "merger",
+        "four_numbers": "merger", "is_even": "merger", "need_even": "merger", "single_three": "merger",
+        "is_single": "merger", "bag_queue": "merger", "merger_word": "merger",
+    },
+    "stories": {
+        "uneven_story": "merger", "single_story": "merger", "story_holds": "merger value",
+        "two_holds": "merger value", "story_ends": "merger value",
+    },
+}
+
+NONE = None
+STORY = ["uneven", [0, 0, 1, 0], [1], [0, 1]]
+
+# Calls with lists throughout; {} behind them is what is passed by name alone.
+CALLS = (
+    (mergers.Merger, [[list(row) for row in TURNS]], {}),
+    (mergers.merged, [Merger(TURNS), 0, 1], {}),
+    (mergers.three_ends, [Merger(TURNS), 0, 0, 2], {}),
+    (mergers.check_queue, [Merger(TURNS), [2, 0, 1]], {}),
+    (mergers.mergeable_places, [Merger(TURNS), [2, 0, 0, 1]], {}),
+    (mergers.is_folded, [Merger(TURNS), [2, 0]], {}),
+    (mergers.mirror_merger, [Merger(TURNS)], {}),
+    (mergers.named_merger, [Merger(TURNS), [1, 2, 0]], {}),
+    (mergers.part_merger, [Merger(TURNS), [0, 2]], {}),
+    (mergers.beside_mergers, [Merger(TURNS), Merger(CELL)], {}),
+    (machines.check_machine, [[[1, 2, 0], [2, 0, 1]]], {}),
+    (machines.done_table, [[[1, 2, 0], [2, 0, 1]], [0, 0, 1]], {}),
+    (machines.machine_merger, [[[1, 2, 0], [2, 0, 1]]], {}),
+    (views.unlike_pairs, [Merger(TURNS), [0, 0, 1]], {}),
+    (views.check_view, [Merger([[0, 1], [0, 1]]), [0, 0]], {}),
+    (views.viewed_merger, [Merger([[0, 1], [0, 1]]), [0, 0]], {}),
+    (views.coarsest_view, [Merger(SUMS)], {}),
+    (views.finest_view, [Merger([[0, 1], [0, 1]]), [[0, 1], [1, 1]]], {}),
+    (texts.merger_text, [Merger(TURNS)], {}),
+    (texts.read_merger, ["merger 1\nx"], {}),
+    (texts.queue_text, [Merger(TURNS), [0, 2]], {}),
+    (texts.read_queue, [Merger(TURNS), "0 2"], {}),
+    (queues.fold_at, [Merger(TURNS), [0, 0, 2], 0], {}),
+    (queues.way_end, [Merger(TURNS), [0, 0, 2, 0], [0, 0]], {}),
+    (stretches.comes_to, [Merger(two_ends()), [0, 1, 2, 3, 4], 0, 5], {}),
+    (stretches.one_way, [Merger(two_ends()), [0, 1, 2, 3, 4], 1], {}),
+    (stretches.fewest_left, [Merger(SUMS), [0, 0, 1, 0]], {}),
+    (stretches.most_left, [Merger(SUMS), [0, 0, 1, 0]], {}),
+    (stretches.fewest_way, [Merger(SUMS), [0, 0, 1, 0]], {}),
+    (stretches.most_way, [Merger(SUMS), [0, 0, 1, 0]], {}),
+    (folding.plain_fold, [Merger(SUMS), [0, 0, 1, 0]], {}),
+    (folding.plain_way, [Merger(SUMS), [0, 0, 1, 0]], {}),
+    (folding.losing_four, [Merger(HURRIED)], {}),
+    (folding.folded_total, [Merger(SUMS), [0, 0, 1, 0]], {}),
+    (folding.folded_queues, [Merger(SUMS), [0, 0, 1, 0]], {}),
+    (folding.folded_queues, [Merger(SUMS), [0, 0, 1, 0]], {"most": 20}),
+    (courts.hand_triples, [Merger(SUMS)], {}),
+    (courts.four_kind, [Merger(SUMS), [0, 0, 1, 0]], {}),
+    (courts.uneven_fours, [Merger(SUMS)], {}),
+    (courts.uneven_four, [Merger(SUMS)], {}),
+    (courts.four_numbers, [Merger(SUMS)], {}),
+    (courts.is_even, [Merger(SUMS)], {}),
+    (courts.need_even, [Merger(HANDED)], {}),
+    (courts.single_three, [Merger(HANDED)], {}),
+    (courts.is_single, [Merger(HANDED)], {}),
+    (courts.bag_queue, [Merger(HANDED)], {}),
+    (courts.merger_word, [Merger(HANDED)], {}),
+    (stories.uneven_story, [Merger(SUMS)], {}),
+    (stories.single_story, [Merger(SUMS)], {}),
+    (stories.story_holds, [Merger(SUMS), STORY], {}),
+    (stories.two_holds, [Merger(SUMS), ["two"] + STORY[1:]], {}),
+    (stories.story_ends, [Merger(SUMS), STORY], {}),
+)
+
+
+def defined(module):
+    return importlib.import_module("foursfold." + module)
+
+
+def tupled(value):
+    return tuple(tupled(part) for part in value) if isinstance(value, list) else value
+
+
+def looked_at(value):
+    """A merger's attributes, or the value itself."""
+    return (value.commands, value.rows) if isinstance(value, Merger) else value
+
+
+class Interface(unittest.TestCase):
+    def test_everything_is_defined_in_its_file(self):
+        for module, names in INTERFACE.items():
+            for name in names:
+                self.assertEqual(getattr(defined(module), name).__module__, "foursfold." + module)
+
+    def test_parameters(self):
+        for module, names in INTERFACE.items():
+            for name, told in names.items():
+                if told is None:
+                    continue
+                called = getattr(defined(module), name)
+                parameters = list(inspect.signature(called).parameters.values())
+                words = told.split()
+                self.assertEqual([one.name for one in parameters], [word for word in words if word != "*"], name)
+                for one in parameters:
+                    behind = "*" in words and words.index(one.name) > words.index("*")
+                    self.assertEqual(one.kind == one.KEYWORD_ONLY, behind)
+
+    def test_every_function_is_called_here(self):
+        called = {function for function, _, _ in CALLS}
+        for module, names in INTERFACE.items():
+            if module != "errors":
+                for name in names:
+                    self.assertIn(getattr(defined(module), name), called)
+
+    def test_merger_has_its_attributes(self):
+        self.assertEqual(vars(Merger(CELL)), {"commands": 2, "rows": CELL})
+
+
+class Calls(unittest.TestCase):
+    def test_arguments_stay_as_they_are(self):
+        for function, args, named in CALLS:
+            before = deepcopy(args)
+            function(*args, **named)
+            self.assertTrue(alike([looked_at(arg) for arg in args], [looked_at(arg) for arg in before]))
+
+    def test_lists_and_tuples_and_names(self):
+        for function, args, named in CALLS:
+            want = looked_at(function(*args, **named))
+            names = [name for name in inspect.signature(function).parameters if name not in ("most",)]
+            for passed in (args, tupled(args)):
+                self.assertTrue(alike(looked_at(function(*passed, **named)), want), function)
+                by_name = dict(zip(reversed(names), reversed(passed)))
+                self.assertTrue(alike(looked_at(function(**by_name, **named)), want), function)
+
+    def test_tuples_throughout(self):
+        for function, args, named in CALLS:
+            self.assertTrue(no_lists(looked_at(function(*args, **named))), function)
+
+    def test_calls_in_between(self):
+        wants = [looked_at(function(*args, **named)) for function, args, named in CALLS]
+        for at in list(range(len(CALLS)))[::-1] + list(range(len(CALLS))):
+            function, args, named = CALLS[at]
+            self.assertTrue(alike(looked_at(function(*args, **named)), wants[at]))
+
+    def test_what_is_returned_does_not_hang_on_arguments(self):
+        queue, way, rows = [0, 0, 1, 0], [1], [[None, 1], [None, None]]
+        merger = Merger(rows)
+        checked, end = mergers.check_queue(Merger(SUMS), queue), queues.way_end(Merger(SUMS), queue, way)
+        queue.clear()
+        way.append(3)
+        rows[0][1] = None
+        self.assertEqual((checked, end, merger.rows), ((0, 0, 1, 0), (0, 2, 0), ((None, 1), (None, None))))
+
+    def test_whether_is_a_bool(self):
+        for value in any_values():
+            for function in (stories.story_holds, stories.two_holds):
+                self.assertIs(type(function(Merger(SUMS), value)), bool)
+        for rows in (SUMS, TURNS, CELL, HANDED):
+            self.assertIs(type(courts.is_even(Merger(rows))), bool)
+            self.assertIs(type(courts.is_single(Merger(rows))), bool)
+            self.assertIs(type(mergers.is_folded(Merger(rows), [0, 1])), bool)
+
+
+class Limits(ErrorChecks, unittest.TestCase):
+    def test_queues_of_10000_commands(self):
+        queue = Drawn(5).queue(12, 10000)
+        for merger in (Merger(sums_to(12)), Merger([(NONE,) * 12] * 12), Merger([tuple(range(12))] * 12)):
+            self.assertEqual(mergers.check_queue(merger, list(queue)), queue)
+            way = folding.plain_way(merger, queue)
+            self.assertEqual(queues.way_end(merger, queue, list(way)), folding.plain_fold(merger, queue))
+            self.assertEqual(texts.read_queue(merger, texts.queue_text(merger, queue)), queue)
+            for place in mergers.mergeable_places(merger, queue)[:1]:
+                self.assertEqual(len(queues.fold_at(merger, queue, place)), 9999)
+            self.raises(errors.BadQueue, -1, folding.plain_fold, merger, queue + (0,))
+
+    def test_mergers_of_twelve(self):
+        for merger in (Merger(sums_to(12)), Merger([(NONE,) * 12] * 12), Merger([tuple(range(12))] * 12)):
+            self.assertEqual(mergers.mirror_merger(mergers.mirror_merger(merger)), merger)
+            self.assertEqual(texts.read_merger(texts.merger_text(merger)), merger)
+            self.assertEqual(courts.merger_word(merger) == "uneven", not courts.is_even(merger))
+            self.assertEqual(stories.uneven_story(merger) is None, courts.is_even(merger))
+            folding.losing_four(merger)
+            queue = (0, 1, 0, 0, 1, 2, 0, 3, 0, 1, 1, 0)
+            self.assertLessEqual(stretches.fewest_left(merger, queue), stretches.most_left(merger, queue))
+            self.assertLessEqual(len(folding.folded_queues(merger, queue)), folding.folded_total(merger, queue))
+
+
+if __name__ == "__main__":
+    unittest.main()

@@ -1,0 +1,94 @@
+"""The examples of the document, word for word."""
+
+import doctest
+import unittest
+
+CHAPTER_1 = """
+    >>> from foursfold.courts import is_even, uneven_four
+    >>> from foursfold.mergers import Merger
+    >>> sums = Merger([(1, 2, None), (2, None, None), (None, None, None)])
+    >>> last = Merger([(0, 1), (0, 1)])
+    >>> is_even(last), is_even(sums), uneven_four(sums)
+    (True, False, ('middle', (0, 0, 1, 0)))
+"""
+
+CHAPTER_3 = """
+    >>> from foursfold.machines import done_table, machine_merger
+    >>> from foursfold.mergers import Merger, is_folded, mergeable_places, merged, part_merger, three_ends
+    >>> from foursfold.texts import merger_text
+    >>> from foursfold.views import coarsest_view, finest_view
+    >>> turns = machine_merger([(1, 2, 0), (2, 0, 1), (0, 0, 0)])
+    >>> turns.rows
+    ((1, -1, 2), (-1, 0, 2), (None, None, 2))
+    >>> merged(turns, 2, 0), three_ends(turns, 0, 1, 0), mergeable_places(turns, (2, 0, 0, 1)), is_folded(turns, (2, 1))
+    (None, (0, 0), (1, 2), True)
+    >>> done_table([(1, 2, 0), (2, 0, 1), (0, 0, 0)], (2, 0)), part_merger(turns, (0, 2)).rows
+    ((1, 1, 1), ((None, 1), (None, 1)))
+    >>> coarsest_view(turns), coarsest_view(Merger([(0, 1), (0, 1)])), finest_view(turns, [(0, 1)])
+    ((0, 1, 2), (0, 0), None)
+    >>> merger_text(turns)
+    'merger 3\\n1 x 2\\nx 0 2\\n- - 2'
+"""
+
+CHAPTER_4 = """
+    >>> from foursfold.folding import folded_queues, losing_four, plain_fold, plain_way
+    >>> from foursfold.machines import machine_merger
+    >>> from foursfold.mergers import Merger
+    >>> from foursfold.queues import fold_at, way_end
+    >>> from foursfold.stretches import comes_to, fewest_left, most_left, one_way
+    >>> turns = machine_merger([(1, 2, 0), (2, 0, 1), (0, 0, 0)])
+    >>> plain_fold(turns, (2, 0, 0, 1)), plain_way(turns, (2, 0, 0, 1)), fold_at(turns, (2, 0, 0, 1), 2)
+    ((2, 0), (1, 1), (2, 0))
+    >>> comes_to(turns, (0, 1, 1, 2), 0, 3), one_way(turns, (0, 1), -1), one_way(turns, (2, 0), 1)
+    ((1,), (0,), None)
+    >>> none = (None,) * 6
+    >>> hurried = Merger([(None, 4) + (None,) * 4, (None, None, 5) + (None,) * 3, none, none, none, \
+(None, None, None, 3, None, None)])
+    >>> losing_four(hurried), folded_queues(hurried, (0, 1, 2, 3)), plain_way(hurried, (0, 1, 2, 3)), \
+way_end(hurried, (0, 1, 2, 3), [1, 1])
+    ((0, 1, 2, 3), ((0, 3), (4, 2, 3)), (0,), (0, 3))
+    >>> fewest_left(hurried, (0, 1, 2, 3, 3)), most_left(hurried, (0, 1, 2, 3, 3)), losing_four(turns)
+    (3, 4, None)
+    >>> told = {(0, 1): 5, (1, 2): 6, (2, 3): 7, (3, 4): 8, (5, 7): 9, (9, 4): 0, (6, 8): 10, (0, 10): 1}
+    >>> comes_to(Merger([[told.get((one, other)) for other in range(11)] for one in range(11)]), (0, 1, 2, 3, 4), 0, 5)
+    (0, 1)
+"""
+
+CHAPTER_5 = """
+    >>> from foursfold.courts import four_kind, four_numbers, hand_triples, is_even, merger_word, uneven_four
+    >>> from foursfold.mergers import Merger
+    >>> from foursfold.stories import story_ends
+    >>> none = None
+    >>> sums = Merger([[1, 2, none], [2, none, none], [none, none, none]])
+    >>> hand_triples(sums), uneven_four(sums), four_numbers(sums), merger_word(sums)
+    (((0, 0, 1), (0, 1, 0), (1, 0, 0), (1, 0, 1)), ('middle', (0, 0, 1, 0)), (5, 0, 0), 'uneven')
+    >>> story_ends(sums, ("uneven", [0, 0, 1, 0], (1,), (0, 1)))
+    ((0, 2, 0), (1, 2))
+    >>> last = Merger([[0, 1], [0, 1]])
+    >>> is_even(last), merger_word(last), four_kind(last, (0, 1, 1, 0))
+    (True, 'clear', None)
+"""
+
+
+class Examples(unittest.TestCase):
+    def check(self, text, many):
+        test = doctest.DocTestParser().get_doctest(text, {}, "example", None, None)
+        told = []
+        failed, tried = doctest.DocTestRunner().run(test, out=told.append)
+        self.assertEqual((failed, tried), (0, many), "".join(told))
+
+    def test_chapter_1(self):
+        self.check(CHAPTER_1, 5)
+
+    def test_chapter_3(self):
+        self.check(CHAPTER_3, 10)
+
+    def test_chapter_4(self):
+        self.check(CHAPTER_4, 14)
+
+    def test_chapter_5(self):
+        self.check(CHAPTER_5, 9)
+
+
+if __name__ == "__main__":
+    unittest.main()
