@@ -92,7 +92,7 @@ def _most_spans(rows, table):
     last = len(table) - 1
     if len(best[last]) == 0:
         return [(0, last, -1)]
-    _, command = max([(told[0], command) for command, told in best[last].items()])
+    _, command = max([(told[0], end) for end, told in best[last].items()])
     spans = []
     while last > 0:
         _, span, command = best[last][command]

@@ -33,7 +33,7 @@ def read_merger(text):
         raise BadText(0)
     lines = text.split("\n")
     # Whole words are looked up, so that no other way to write a number counts.
-    heads = {_head_line(commands): commands for commands in range(1, COMMAND_LIMIT + 1)}
+    heads = {_head_line(many): many for many in range(1, COMMAND_LIMIT + 1)}
     if lines[0] not in heads:
         raise BadText(1)
     commands = heads[lines[0]]

@@ -120,9 +120,9 @@ def _forced_pairs(merger, view):
         for third in range(merger.commands):
             ends = ((rows[one][third], rows[other][third]), (rows[third][one], rows[third][other]))
             for end, like in ends:
-                if end is None or like is None or end == -1 or like == -1:
-                    if end != like:
-                        return None
-                else:
-                    forced.append((end, like))
+                if end == like:
+                    continue
+                if end is None or end == -1 or like is None or like == -1:
+                    return None
+                forced.append((end, like))
     return forced

@@ -2,6 +2,9 @@
 
 import doctest
 import unittest
+from pathlib import Path
+
+README = Path(__file__).resolve().parent.parent / "README.md"
 
 CHAPTER_1 = """
     >>> from foursfold.courts import is_even, uneven_four
@@ -88,6 +91,9 @@ class Examples(unittest.TestCase):
 
     def test_chapter_5(self):
         self.check(CHAPTER_5, 9)
+
+    def test_readme(self):
+        self.check(README.read_text(encoding="utf-8"), 6)
 
 
 if __name__ == "__main__":

@@ -170,7 +170,7 @@ class FoldedQueues(ErrorChecks, unittest.TestCase):
         self.assertGreater(total, 30)
         for most in range(1, total + 3):
             if most < total:
-                self.refused_or_right(merger, queue, most)
+                self.raises(TooGreat, most, folded_queues, merger, queue, most=most)
             else:
                 self.assertEqual(folded_queues(merger, queue, most=most), folded_of(merger.rows, queue))
         with self.assertRaises(TypeError):
@@ -179,16 +179,13 @@ class FoldedQueues(ErrorChecks, unittest.TestCase):
             folded_total(merger, queue, most=5)
         self.raises(BadQueue, 0, folded_queues, merger, [5], most=1)
 
-    def refused_or_right(self, merger, queue, most):
-        try:
-            self.assertEqual(folded_queues(merger, queue, most=most), folded_of(merger.rows, queue))
-        except TooGreat as error:
-            self.assertEqual(error.most, most)
-
     def test_a_thousand_if_nothing_is_said(self):
         none = None
         merger = Merger([(1, none, none, 2), (none, 3, none, none), (none,) * 4, (none,) * 4])
-        self.raises_or_all(merger, (0,) * 20)
+        self.assertEqual(folded_total(merger, (0,) * 20), 1113)
+        self.raises(TooGreat, 1000, folded_queues, merger, (0,) * 20)
+        self.raises(TooGreat, 1112, folded_queues, merger, (0,) * 20, most=1112)
+        self.assertEqual(len(folded_queues(merger, (0,) * 20, most=1113)), 1113)
         self.assertEqual(folded_total(Merger(sums_to(2)), (0,) * 20), 200)
         self.assertEqual(len(folded_queues(Merger(sums_to(2)), (0,) * 20)), 200)
 
@@ -201,15 +198,6 @@ class FoldedQueues(ErrorChecks, unittest.TestCase):
         self.assertEqual(folded_total(merger, part * 3), len(one) ** 3)
         want = sorted(ahead + middle + behind for ahead, middle, behind in product(one, repeat=3))
         self.assertEqual(folded_queues(merger, part * 3), tuple(want))
-
-    def raises_or_all(self, merger, queue):
-        total = folded_total(merger, queue)
-        self.assertGreater(total, 1000)
-        try:
-            self.assertEqual(len(folded_queues(merger, queue)), total)
-        except TooGreat as error:
-            self.assertEqual(error.most, 1000)
-        self.assertEqual(len(folded_queues(merger, queue, most=total)), total)
 
     def test_the_greatest_queues(self):
         drawn = Drawn(83)
