@@ -96,13 +96,13 @@ def need_even(merger):
 def single_three(merger):
     """The least queue of three with two folded queues, or None."""
     for three in hand_triples(merger):
-        ahead, behind = _hand_pairs(merger, three)
+        ahead, behind = hand_pairs(merger, three)
         if ahead != behind:
             return three
     return None
 
 
-def _hand_pairs(merger, three):
+def hand_pairs(merger, three):
     """Both folded queues of a triple of hand_triples."""
     one, middle, other = three
     return (merger.rows[one][middle], other), (one, merger.rows[middle][other])
@@ -116,7 +116,7 @@ def is_single(merger):
 def bag_queue(merger):
     """The first queue with two folded queues of unlike bags, or None."""
     for three in hand_triples(merger):
-        ahead, behind = _hand_pairs(merger, three)
+        ahead, behind = hand_pairs(merger, three)
         if sorted(ahead) != sorted(behind):
             return three
     # If no three have unlike bags, a four has them only if its folded queues

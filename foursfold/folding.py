@@ -15,20 +15,27 @@ def plain_way(merger, queue):
     return _put_in_order(merger.rows, check_queue(merger, queue))[1]
 
 
+def put_behind(rows, held, command):
+    """Put a command to a folded list; the places at which it merges."""
+    places = []
+    held.append(command)
+    while len(held) > 1:
+        end = rows[held[-2]][held[-1]]
+        if end is None:
+            break
+        places.append(len(held) - 2)
+        del held[-2:]
+        if end != -1:
+            held.append(end)
+    return places
+
+
 def _put_in_order(rows, queue):
     """What is left if command is put to command, and where they merged."""
     held = []
     way = []
     for command in queue:
-        held.append(command)
-        while len(held) > 1:
-            end = rows[held[-2]][held[-1]]
-            if end is None:
-                break
-            way.append(len(held) - 2)
-            del held[-2:]
-            if end != -1:
-                held.append(end)
+        way.extend(put_behind(rows, held, command))
     return tuple(held), tuple(way)
 
 

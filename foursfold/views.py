@@ -54,7 +54,7 @@ def viewed_merger(merger, view):
     return Merger([[_end_group(merger, groups, one, other) for other in firsts] for one in firsts])
 
 
-def _numbered(signs):
+def numbered_signs(signs):
     """The grouping of what has like signs."""
     numbers = {}
     groups = []
@@ -80,7 +80,7 @@ def _parted(merger, view):
         ahead = [_end_group(merger, view, command, other) for other in range(merger.commands)]
         behind = [_end_group(merger, view, other, command) for other in range(merger.commands)]
         signs.append((view[command], tuple(ahead), tuple(behind)))
-    return _numbered(signs)
+    return numbered_signs(signs)
 
 
 def finest_view(merger, pairs):
@@ -107,7 +107,7 @@ def _put_together(view, pairs):
     for one, other in pairs:
         kept, left = groups[one], groups[other]
         groups = [kept if group == left else group for group in groups]
-    return _numbered(groups)
+    return numbered_signs(groups)
 
 
 def _forced_pairs(merger, view):

@@ -5,9 +5,13 @@ import inspect
 import unittest
 from copy import deepcopy
 
-from foursfold import courts, errors, folding, machines, mergers, queues, stories, stretches, texts, views
+from foursfold import (
+    classes, courts, errors, folding, handing, heads, kept, machines, mergers, pushes,
+    queues, stories, stretches, texts, views,
+)
 from foursfold.mergers import Merger
 
+from evens import LIFT, nine
 from plainly import Drawn
 from samples import CELL, HANDED, HURRIED, SUMS, TURNS, sums_to, two_ends
 from wrong import ErrorChecks, alike, any_values, no_lists
@@ -50,9 +54,32 @@ INTERFACE = {
         "uneven_story": "merger", "single_story": "merger", "story_holds": "merger value",
         "two_holds": "merger value", "story_ends": "merger value",
     },
+    "handing": {
+        "pair_overs": "merger one other", "hand_overs": "merger queue", "handed_over": "merger queue place pair",
+    },
+    "classes": {
+        "cut_numbers": "merger queue * most", "class_graph": "merger queue * most",
+        "class_holds": "merger queue value", "class_size": "merger queue * most",
+        "class_queue": "merger queue number * most", "class_place": "merger queue other * most",
+        "is_alike": "merger one other * most", "hand_way": "merger one other * most",
+    },
+    "kept": {
+        "first_kept": "merger", "last_kept": "merger", "bag_kept": "merger", "weights_kept": "merger weights",
+        "kept_basis": "merger", "kept_group": "merger", "same_kept": "merger one other",
+    },
+    "pushes": {
+        "end_length": "merger queue", "push_change": "merger queue command", "most_drop": "merger",
+        "deep_drop": "merger number",
+    },
+    "heads": {
+        "safe_number": "merger queue", "losing_word": "merger queue", "head_depth": "merger",
+        "unsafe_head": "merger number",
+    },
 }
 
 NONE = None
+NINE = Merger(nine())
+GRAPH = [[[0, 0, 0], [0, 6, 1]], [[0, 1, 0], [0, 5, 1], [1, 4, 1]], [[0, 8, 0], [1, 7, 0]]]
 STORY = ["uneven", [0, 0, 1, 0], [1], [0, 1]]
 
 # Calls with lists throughout; {} behind them is what is passed by name alone.
@@ -109,6 +136,32 @@ CALLS = (
     (stories.story_holds, [Merger(SUMS), STORY], {}),
     (stories.two_holds, [Merger(SUMS), ["two"] + STORY[1:]], {}),
     (stories.story_ends, [Merger(SUMS), STORY], {}),
+    (handing.pair_overs, [Merger(SUMS), 0, 2], {}),
+    (handing.hand_overs, [NINE, [0, 1, 8]], {}),
+    (handing.handed_over, [NINE, [0, 1, 8], 1, [5, 7]], {}),
+    (classes.cut_numbers, [NINE, [0, 1, 8]], {}),
+    (classes.class_graph, [NINE, [0, 1, 8]], {"most": 6}),
+    (classes.class_holds, [NINE, [0, 1, 8], ["class", GRAPH]], {}),
+    (classes.class_size, [NINE, [0, 1, 8]], {}),
+    (classes.class_queue, [NINE, [0, 1, 8], 2], {"most": 20000}),
+    (classes.class_place, [NINE, [0, 1, 8], [6, 4, 7]], {}),
+    (classes.is_alike, [NINE, [0, 1, 2, 7], [0, 3, 4, 7]], {}),
+    (classes.hand_way, [NINE, [0, 1, 8], [6, 4, 7]], {}),
+    (kept.first_kept, [NINE], {}),
+    (kept.last_kept, [NINE], {}),
+    (kept.bag_kept, [NINE], {}),
+    (kept.weights_kept, [NINE, [1, 1, 1, 1, 1, 2, 2, 1, 2]], {}),
+    (kept.kept_basis, [NINE], {}),
+    (kept.kept_group, [NINE], {}),
+    (kept.same_kept, [NINE, [0, 1, 8], [6, 4, 7]], {}),
+    (pushes.end_length, [Merger(LIFT), [0, 1, 2]], {}),
+    (pushes.push_change, [Merger(LIFT), [0, 1], 2], {}),
+    (pushes.most_drop, [Merger(LIFT)], {}),
+    (pushes.deep_drop, [Merger(LIFT), 1], {}),
+    (heads.safe_number, [Merger(LIFT), [0, 4, 1]], {}),
+    (heads.losing_word, [Merger(LIFT), [0, 1]], {}),
+    (heads.head_depth, [Merger(LIFT)], {}),
+    (heads.unsafe_head, [Merger(LIFT), 1], {}),
 )
 
 
@@ -194,6 +247,7 @@ class Calls(unittest.TestCase):
         for value in any_values():
             for function in (stories.story_holds, stories.two_holds):
                 self.assertIs(type(function(Merger(SUMS), value)), bool)
+            self.assertIs(type(classes.class_holds(NINE, [0, 1, 8], value)), bool)
         for rows in (SUMS, TURNS, CELL, HANDED):
             self.assertIs(type(courts.is_even(Merger(rows))), bool)
             self.assertIs(type(courts.is_single(Merger(rows))), bool)

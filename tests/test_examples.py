@@ -72,6 +72,24 @@ CHAPTER_5 = """
     (True, 'clear', None)
 """
 
+CHAPTER_6 = """
+    >>> from foursfold.classes import class_queue, class_size, cut_numbers, hand_way, is_alike
+    >>> from foursfold.handing import hand_overs
+    >>> from foursfold.kept import first_kept, kept_group, weights_kept
+    >>> from foursfold.mergers import Merger
+    >>> rows = [[None] * 9 for command in range(9)]
+    >>> rows[1][2], rows[3][4], rows[0][3], rows[2][7] = 5, 5, 6, 8
+    >>> merger = Merger(rows)
+    >>> hand_overs(merger, (0, 1, 8)), cut_numbers(merger, (0, 1, 8)), class_size(merger, (0, 1, 8))
+    (((1, (5, 7)),), (1, 2, 2, 1), 3)
+    >>> class_queue(merger, (0, 1, 8), 2), hand_way(merger, (0, 1, 8), (6, 4, 7))
+    ((6, 4, 7), ((1, (5, 7)), (0, (6, 4))))
+    >>> is_alike(merger, (0, 1, 2, 7), (0, 3, 4, 7)), class_size(merger, (0, 1, 8) * 100)
+    (True, 515377520732011331036461129765621272702107522001)
+    >>> first_kept(merger), kept_group(merger), weights_kept(merger, [1, 1, 1, 1, 1, 2, 2, 1, 2])
+    ((0, 3, 4), (7, ()), None)
+"""
+
 
 class Examples(unittest.TestCase):
     def check(self, text, many):
@@ -92,8 +110,11 @@ class Examples(unittest.TestCase):
     def test_chapter_5(self):
         self.check(CHAPTER_5, 9)
 
+    def test_chapter_6(self):
+        self.check(CHAPTER_6, 11)
+
     def test_readme(self):
-        self.check(README.read_text(encoding="utf-8"), 6)
+        self.check(README.read_text(encoding="utf-8"), 12)
 
 
 if __name__ == "__main__":
