@@ -5,7 +5,7 @@ from foursfold.courts import need_even
 from foursfold.cuts import ClassGraph
 from foursfold.errors import Refused, TooGreat
 from foursfold.folding import plain_fold
-from foursfold.handing import folded_of, over_table, overs_of, with_pair
+from foursfold.handing import come_from, folded_of, over_table
 from foursfold.mergers import check_queue
 
 
@@ -102,7 +102,7 @@ def hand_way(merger, one, other, *, most=10000):
     need_even(merger)
     if len(first) != len(last):
         return None
-    known = _come_from(over_table(merger), first, last, most)
+    known = come_from(over_table(merger), first, last, most)
     if last not in known:
         return None
     way = []
@@ -111,31 +111,6 @@ def hand_way(merger, one, other, *, most=10000):
         queue, place, pair = known[queue]
         way.append((place, pair))
     return tuple(way[::-1])
-
-
-def _come_from(table, first, last, most):
-    """By queue that hand-overs lead to: the one ahead of it, place and pair.
-
-    All queues of a class are told, or those up to the last one if it is among
-    them, those of fewer hand-overs first.
-    """
-    known = {first: None}
-    waiting = [first]
-    at = 0
-    while at < len(waiting) and last not in known:
-        queue = waiting[at]
-        at += 1
-        for place, pair in overs_of(table, queue):
-            further = with_pair(queue, place, pair)
-            if further in known:
-                continue
-            if len(known) == most:
-                raise TooGreat(most)
-            known[further] = (queue, place, pair)
-            waiting.append(further)
-            if further == last:
-                break
-    return known
 
 
 def class_holds(merger, queue, value):

@@ -2,7 +2,7 @@
 
 from foursfold.checks import are_below, is_below, is_row
 from foursfold.courts import hand_pairs, hand_triples
-from foursfold.errors import Refused
+from foursfold.errors import Refused, TooGreat
 from foursfold.mergers import check_command, check_queue, places_of
 
 
@@ -39,6 +39,31 @@ def overs_of(table, queue):
 def with_pair(queue, place, pair):
     """The queue with another pair of neighbours at a place."""
     return queue[:place] + pair + queue[place + 2:]
+
+
+def come_from(table, first, last, most):
+    """By queue that hand-overs lead to: the one ahead of it, place and pair.
+
+    All queues of a class are told, or those up to the last one if it is among
+    them, those of fewer hand-overs first.
+    """
+    known = {first: None}
+    waiting = [first]
+    at = 0
+    while at < len(waiting) and last not in known:
+        queue = waiting[at]
+        at += 1
+        for place, pair in overs_of(table, queue):
+            further = with_pair(queue, place, pair)
+            if further in known:
+                continue
+            if len(known) == most:
+                raise TooGreat(most)
+            known[further] = (queue, place, pair)
+            waiting.append(further)
+            if further == last:
+                break
+    return known
 
 
 def folded_of(merger, queue):

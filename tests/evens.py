@@ -45,6 +45,35 @@ ROUND_3 = (
     (None, None, 5, None, None, None), (None, None, None, 1, None, None), (None,) * 6,
 )
 
+# Without a ring, and with something to be handed over.
+ENDED = (
+    ((0, 0, 0, None), (0, 0, 0, None), (0, 0, 2, 3), (0, 0, None, 3)),
+    ((0, 0, 0, 0), (0, 1, None, None), (None, 3, 2, 3), (None, 3, 2, 3)),
+    ((0, 0, 0, 0), (0, 0, 1, 1), (0, 0, 2, 3), (None, None, 3, 3)),
+    ((1, 1, 3, None), (1, 1, None, None), (2, 2, 2, 2), (3, 3, 3, 3)),
+    (
+        (0, 0, 0, 0, 0), (0, 0, 1, 1, 1), (None, None, 3, 2, None), (0, 0, 2, 3, None), (0, 1, 2, 3, -1),
+    ),
+)
+
+# Notes that are parted by three or four commands only.
+PARTED = (
+    ((-1, None, None, None), (1, 1, None, None), (2, 2, 2, None), (None, 1, None, 3)),
+    (
+        (None, 4, None, None, None), (None,) * 5, (None, 3, None, None, None), (None,) * 5,
+        (None, 2, None, None, None),
+    ),
+    (
+        (None, None, None, None, None, 4), (None, None, None, 1, None, 0), (None, None, None, None, None, 1),
+        (None, None, None, -1, None, None), (None, None, None, None, None, 2), (None,) * 6,
+    ),
+)
+
+
+def upwards(commands):
+    """What is folded goes up to a greater command, once; so there is no ring."""
+    return tuple(tuple(one if other <= one else None for other in range(commands)) for one in range(commands))
+
 
 def nine():
     """The merger of the example of chapter 6."""
@@ -117,7 +146,8 @@ def named_evens():
     return [
         LIFT, FREE, DROPPED, TWICE, STEPS, LAST, CELL, HANDED, TURNS, WIDE, ROUND_2, ROUND_3, nine(),
         amalgam(2, 2, 2), amalgam(3, 2, 2), amalgam(2, 2, 3),
-    ] + list(DEPTHS.values())
+        upwards(3), upwards(4),
+    ] + list(DEPTHS.values()) + list(ENDED) + list(PARTED)
 
 
 def drawn_evens(seed, many, most=5):

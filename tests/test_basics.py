@@ -6,12 +6,12 @@ import unittest
 from copy import deepcopy
 
 from foursfold import (
-    classes, courts, errors, folding, handing, heads, kept, machines, mergers, pushes,
-    queues, stories, stretches, texts, views,
+    chains, classes, courts, errors, folding, handing, heads, houses, kept, lengths, machines, mergers, ownhouse, pushes,
+    queues, senders, stories, stretches, texts, views,
 )
 from foursfold.mergers import Merger
 
-from evens import LIFT, nine
+from evens import LIFT, STEPS, nine
 from plainly import Drawn
 from samples import CELL, HANDED, HURRIED, SUMS, TURNS, sums_to, two_ends
 from wrong import ErrorChecks, alike, any_values, no_lists
@@ -75,10 +75,34 @@ INTERFACE = {
         "safe_number": "merger queue", "losing_word": "merger queue", "head_depth": "merger",
         "unsafe_head": "merger number",
     },
+    "senders": {
+        "Sender": "merger keep", "sender_loss": "merger queue keep", "split_cost": "merger one other",
+        "most_cost": "merger", "dear_split": "merger number",
+    },
+    "houses": {
+        "house_map": "merger tables queue", "house_state": "merger tables state queue",
+        "house_fault": "merger tables", "is_house": "merger tables", "house_parting": "merger tables one other",
+        "merges_there": "merger tables",
+    },
+    "ownhouse": {
+        "ring_paper": "merger", "ring_holds": "merger value", "folded_number": "merger",
+        "own_house": "merger * most", "own_view": "merger tables state * most",
+    },
+    "lengths": {
+        "length_house": "merger * most", "LengthDesk": "merger * most", "parting_queue": "merger one other * most",
+    },
+    "chains": {"chain_paper": "merger one other * most", "chain_holds": "merger one other value"},
+}
+# What is told by default with most.
+MOSTS = {
+    "folded_queues": 1000, "cut_numbers": 10000, "class_graph": 10000, "class_size": 10000, "class_queue": 10000,
+    "class_place": 10000, "is_alike": 10000, "hand_way": 10000, "own_house": 5000, "own_view": 5000,
+    "length_house": 5000, "LengthDesk": 5000, "parting_queue": 5000, "chain_paper": 5000,
 }
 
 NONE = None
 NINE = Merger(nine())
+TABLES = [[0, 0, 2], [2, 2, 2]]
 GRAPH = [[[0, 0, 0], [0, 6, 1]], [[0, 1, 0], [0, 5, 1], [1, 4, 1]], [[0, 8, 0], [1, 7, 0]]]
 STORY = ["uneven", [0, 0, 1, 0], [1], [0, 1]]
 
@@ -162,6 +186,27 @@ CALLS = (
     (heads.losing_word, [Merger(LIFT), [0, 1]], {}),
     (heads.head_depth, [Merger(LIFT)], {}),
     (heads.unsafe_head, [Merger(LIFT), 1], {}),
+    (senders.Sender, [Merger(LIFT), 1], {}),
+    (senders.sender_loss, [Merger(LIFT), [0, 1, 2], 1], {}),
+    (senders.split_cost, [Merger(LIFT), [0, 1], [2, 2]], {}),
+    (senders.most_cost, [Merger(LIFT)], {}),
+    (senders.dear_split, [Merger(LIFT), 2], {}),
+    (houses.house_map, [Merger(STEPS), TABLES, [0, 1]], {}),
+    (houses.house_state, [Merger(STEPS), TABLES, 1, [0, 1]], {}),
+    (houses.house_fault, [Merger(STEPS), [[1, 1], [0, 0]]], {}),
+    (houses.is_house, [Merger(STEPS), TABLES], {}),
+    (houses.house_parting, [Merger(STEPS), TABLES, [0], [1, 0]], {}),
+    (houses.merges_there, [Merger(STEPS), TABLES], {}),
+    (ownhouse.ring_paper, [Merger(LIFT)], {}),
+    (ownhouse.ring_holds, [Merger(STEPS), ["longest", [0, 1]]], {}),
+    (ownhouse.folded_number, [Merger(STEPS)], {}),
+    (ownhouse.own_house, [Merger(STEPS)], {"most": 4}),
+    (ownhouse.own_view, [Merger(STEPS), TABLES, 1], {}),
+    (lengths.length_house, [Merger(STEPS)], {"most": 20000}),
+    (lengths.LengthDesk, [Merger(STEPS)], {}),
+    (lengths.parting_queue, [Merger(STEPS), [1], [0]], {}),
+    (chains.chain_paper, [NINE, [0, 1, 2, 7], [0, 3, 4, 7]], {}),
+    (chains.chain_holds, [NINE, [5], [1, 2], ["chain", [[5], [1, 2]]]], {}),
 )
 
 
@@ -174,8 +219,14 @@ def tupled(value):
 
 
 def looked_at(value):
-    """A merger's attributes, or the value itself."""
-    return (value.commands, value.rows) if isinstance(value, Merger) else value
+    """What can be told of an object of the package, or the value itself."""
+    if isinstance(value, Merger):
+        return value.commands, value.rows
+    if isinstance(value, senders.Sender):
+        return looked_at(value.merger), value.keep, value.held, value.sent, value.came
+    if isinstance(value, lengths.LengthDesk):
+        return value.note, value.length
+    return value
 
 
 class Interface(unittest.TestCase):
@@ -196,6 +247,10 @@ class Interface(unittest.TestCase):
                 for one in parameters:
                     behind = "*" in words and words.index(one.name) > words.index("*")
                     self.assertEqual(one.kind == one.KEYWORD_ONLY, behind)
+                    if one.name == "most" and module != "errors":
+                        self.assertEqual(one.default, MOSTS[name])
+                    if one.name == "keep":
+                        self.assertIsNone(one.default)
 
     def test_every_function_is_called_here(self):
         called = {function for function, _, _ in CALLS}
@@ -203,6 +258,10 @@ class Interface(unittest.TestCase):
             if module != "errors":
                 for name in names:
                     self.assertIn(getattr(defined(module), name), called)
+
+    def test_methods_stand_in_their_classes(self):
+        for name, maker in (("put", senders.Sender), ("put", lengths.LengthDesk)):
+            self.assertEqual(list(inspect.signature(vars(maker)[name]).parameters), ["self", "command"])
 
     def test_merger_has_its_attributes(self):
         self.assertEqual(vars(Merger(CELL)), {"commands": 2, "rows": CELL})

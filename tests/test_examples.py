@@ -90,6 +90,43 @@ CHAPTER_6 = """
     ((0, 3, 4), (7, ()), None)
 """
 
+CHAPTER_7 = """
+    >>> from foursfold.houses import house_fault
+    >>> from foursfold.lengths import LengthDesk, length_house, parting_queue
+    >>> from foursfold.mergers import Merger
+    >>> from foursfold.ownhouse import folded_number, own_house, ring_paper
+    >>> merger = Merger([[0, None], [1, 1]])
+    >>> ring_paper(merger), folded_number(merger), house_fault(merger, [(1, 1), (0, 0)])
+    (('longest', (0, 1)), 4, (1, 0, 0))
+    >>> own_house(merger)
+    (((1, 1, 2, 3), (2, 3, 2, 3)), ((), (0,), (1,), (0, 1)))
+    >>> length_house(merger), parting_queue(merger, (1,), (0,))
+    ((((1, 1, 2), (2, 2, 2)), ((1, 0, 0), (1, 1, 0)), ((), (0,), (1,))), (1,))
+    >>> desk = LengthDesk(merger)
+    >>> [desk.put(command) for command in (0, 0, 1, 0)], desk.note
+    ([1, 1, 2, 2], 2)
+"""
+
+CHAPTER_8 = """
+    >>> from foursfold.heads import head_depth, losing_word, safe_number
+    >>> from foursfold.mergers import Merger
+    >>> from foursfold.pushes import end_length, most_drop, push_change
+    >>> from foursfold.senders import Sender, most_cost, sender_loss, split_cost
+    >>> lift = Merger([(None, None, None, 4, None), (None, None, 3, None, None)] + [(None,) * 5] * 3)
+    >>> end_length(lift, (0, 1, 2)), push_change(lift, (0, 1), 2), most_drop(lift), head_depth(lift)
+    (1, -1, 1, 2)
+    >>> safe_number(lift, (0, 1)), safe_number(lift, (0, 1, 1)), safe_number(lift, (0, 4, 1)), losing_word(lift, (0, 1))
+    (0, 2, 2, (2,))
+    >>> split_cost(lift, (0, 1), (2, 2)), most_cost(lift), sender_loss(lift, (0, 1, 2), 1), sender_loss(lift, (0, 1, 2))
+    (2, 2, 1, 0)
+    >>> there_and_back = Merger([(None, -1), (-1, None)])
+    >>> most_drop(there_and_back), head_depth(there_and_back), most_cost(there_and_back)
+    (1, None, None)
+    >>> sender = Sender(lift)
+    >>> sender.put(0), sender.put(4), sender.put(1), sender.held
+    ((), (0, 4), (), (1,))
+"""
+
 
 class Examples(unittest.TestCase):
     def check(self, text, many):
@@ -113,8 +150,14 @@ class Examples(unittest.TestCase):
     def test_chapter_6(self):
         self.check(CHAPTER_6, 11)
 
+    def test_chapter_7(self):
+        self.check(CHAPTER_7, 10)
+
+    def test_chapter_8(self):
+        self.check(CHAPTER_8, 12)
+
     def test_readme(self):
-        self.check(README.read_text(encoding="utf-8"), 12)
+        self.check(README.read_text(encoding="utf-8"), 15)
 
 
 if __name__ == "__main__":
