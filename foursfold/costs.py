@@ -25,7 +25,7 @@ def cost_steps(rows):
     steps = {START: [(0, (ON_TOP, top, -1), ((top,), ())) for top in range(len(rows))]}
     waiting = [START]
     while len(waiting) > 0:
-        further = [node for _, node, _ in steps[waiting.pop()]]
+        further = [step[1] for step in steps[waiting.pop()]]
         for node in further:
             if node not in steps:
                 steps[node] = _steps_from(rows, node)

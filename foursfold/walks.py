@@ -12,8 +12,8 @@ def greatest_gains(steps):
     waits = {}
     for node in list(steps):
         waits[node] = len(steps[node])
-        for _, behind, _ in steps[node]:
-            ahead.setdefault(behind, []).append(node)
+        for step in steps[node]:
+            ahead.setdefault(step[1], []).append(node)
     gains = {}
     ready = [node for node in list(steps) if waits[node] == 0]
     while len(ready) > 0:

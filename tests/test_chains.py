@@ -216,6 +216,16 @@ class UnevenChains(ErrorChecks, unittest.TestCase):
         rows = tuple(row + (None,) for row in SUMS) + ((None, None, None, 3),)
         self.assertIsNone(chain_paper(Merger(rows), (0, 0), (0,)))
 
+    def test_long_queues_that_come_to_an_end(self):
+        # Each command comes of two of the one before it: 16 of the first make the last.
+        rows = tuple(tuple(one + 1 if one == other < 4 else None for other in range(5)) for one in range(5))
+        merger = Merger(rows)
+        self.assertFalse(is_even(merger))
+        chained = all_chained(rows, (4,), 20000)
+        self.assertIn((0,) * 16, chained)
+        self.assertIsNone(chain_paper(merger, (4,), (3,), most=len(chained)))
+        self.raises(TooGreat, len(chained) - 1, chain_paper, merger, (4,), (3,), most=len(chained) - 1)
+
     def test_queues_of_twelve(self):
         drawn = Drawn(347)
         for rows in (SUMS, HURRIED, two_ends(), MIDDLE):

@@ -15,6 +15,7 @@ from evens import WIDE, amalgam, drawn_evens, named_evens, nine, small_evens
 from plainly import HUGE, Drawn, folded_of, machine_rows, nested
 from samples import CELL, HANDED, LAST, SUMS, TURNS
 from slowly import class_of, cuts_at, folded_all, folded_to, graph_tells, handed, over_pairs, overs, ranks, told_graph
+from slowly import ways_told
 from wrong import ErrorChecks, any_values, is_below, no_lists, queue_fault
 
 ONES = (cut_numbers, class_graph, class_size)
@@ -402,7 +403,18 @@ class Holds(unittest.TestCase):
         merger = Merger(((None,) * 3,) * 3)
         self.assertIs(class_holds(merger, (0, 2), ("class", (((0, 0, 0),), ((0, 2, 0),)))), True)
         self.assertIs(class_holds(merger, (0, 2), ("class", (((0, 0, 0), (0, 1, 0)), ((0, 2, 0),)))), False)
-        # All the ways are queues of the class, but 0 1 and 3 4 are no cut of one class.
+        # From 0 and from 2 the same leads on, and all ways are queues of the class.
+        rows = [[None] * 7 for _ in range(7)]
+        rows[1][3], rows[3][6], rows[1][4], rows[4][6] = 0, 5, 2, 5
+        merger, queue = need_even(Merger(rows)), (0, 6, 2)
+        self.assertEqual(cut_numbers(merger, queue), (1, 3, 1, 1))
+        # One cut is told twice, so that there are as many as there should be.
+        joined = (((0, 0, 0), (0, 1, 1), (0, 2, 0)), ((0, 6, 0), (1, 5, 1)), ((0, 2, 0), (1, 2, 0)))
+        self.assertEqual(sorted(ways_told(joined)[0]), [(0, 6, 2), (1, 5, 2), (2, 6, 2)])
+        self.assertIs(class_holds(merger, queue, ("class", joined)), False)
+        apart = (((0, 0, 0), (0, 1, 1), (0, 2, 2)), ((0, 6, 0), (1, 5, 1), (2, 6, 0)), ((0, 2, 0), (1, 2, 0)))
+        self.assertIs(class_holds(merger, queue, ("class", apart)), True)
+        # Here the ways are not those of the class, either.
         merger, queue = Merger(nine()), (0, 1, 8)
         self.assertIs(class_holds(merger, queue, class_graph(merger, queue)), True)
         joined = (((0, 0, 0), (0, 6, 0)), ((0, 1, 0), (0, 5, 1), (0, 4, 1)), ((0, 8, 0), (1, 7, 0)))

@@ -68,7 +68,10 @@ class Heads(ErrorChecks, unittest.TestCase):
         drawn = Drawn(363)
         for rows in samples():
             for queue in some_queues(rows, drawn, 6):
-                if losing_word(Merger(rows), queue) is None:
+                found = losing_word(Merger(rows), queue)
+                if found is not None:
+                    self.assertIn(0, plain_of(rows, queue + found)[1])
+                else:
                     for word in words_for(rows)[::7]:
                         self.assertEqual(plain_of(rows, queue + word)[0][0], queue[0])
                         self.assertNotIn(0, plain_of(rows, queue + word)[1])

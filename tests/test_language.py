@@ -296,6 +296,18 @@ class Language(unittest.TestCase):
             if isinstance(node.func, ast.Attribute) and node.func.attr == "sort":
                 self.fault("L25", path, node)
 
+    def test_calls_of_the_library(self):
+        names = set().union(*LIBRARY.values())
+        called = []
+        for path, node in self.each(ast.Call):
+            if isinstance(node.func, ast.Name) and node.func.id in names:
+                called.append(node.func)
+                if node.keywords or any(isinstance(arg, ast.Starred) for arg in node.args):
+                    self.fault("L2", path, node)
+        for path, node in self.each(ast.Name):
+            if node.id in names and not any(node is one for one in called):
+                self.fault("L2", path, node)
+
     def test_words(self):
         for path, text in self.texts.items():
             words = set("".join(sign if sign.isalnum() or sign == "_" else " " for sign in text).split())

@@ -211,9 +211,9 @@ class OwnView(ErrorChecks, unittest.TestCase):
                 if not is_list(value) or len(value) != 2:
                     self.raises(BadHouse, -1, own_view, merger, value, value)
                 if not is_below(value, 2):
-                    self.raises(Refused, value, own_view, merger, good, value)
+                    self.raises(Refused, value, own_view, merger, good, value, most=1)
                 wrong = [(1, 0), (0, 0)]
-                self.raises(Refused, wrong, own_view, merger, wrong, value)
+                self.raises(Refused, wrong, own_view, merger, wrong, value, most=1)
             self.raises(Uneven, FOUR, own_view, Merger(SUMS), value, value)
         self.assertEqual(own_view(state=1, tables=good, merger=Merger(STEPS)), (1, 1, 1, 1))
         self.assertEqual(own_view(Merger(LAST), [(0, 0), [1, 1]], 1), (1, 0, 1))
