@@ -1,8 +1,7 @@
 """Verdicts on mergers: whether it matters which neighbours merge first."""
 
-from itertools import product
-
 from foursfold.errors import Refused, Uneven
+from foursfold.fours import bits_in, merging_bits, uneven_middles
 from foursfold.mergers import check_queue
 
 KINDS = ("middle", "left", "right")
@@ -10,16 +9,16 @@ KINDS = ("middle", "left", "right")
 
 def hand_triples(merger):
     """The ascending threes of which either two merge, but never all."""
-    rows = merger.rows
+    _, behinds = merging_bits(merger.rows)
     triples = []
-    for one, row in enumerate(rows):
-        for middle, ahead in enumerate(row):
+    for one, row in enumerate(merger.rows):
+        for middle, end in enumerate(row):
             # If two of three go, the third one is left: then all three merge.
-            if ahead is None or ahead == -1:
+            if end is None or end == -1:
                 continue
-            for other, behind in enumerate(rows[middle]):
-                if behind is not None and rows[ahead][other] is None:
-                    triples.append((one, middle, other))
+            lost = behinds[middle] & ~behinds[end]
+            if lost:
+                triples.extend([(one, middle, other) for other in bits_in(lost)])
     return tuple(triples)
 
 
@@ -55,23 +54,33 @@ def _kind_of(rows, four):
 
 def uneven_fours(merger):
     """The ascending pairs (queue, kind) of all queues of four with a kind."""
-    numbers = list(range(merger.commands))
+    middles = uneven_middles(merger.rows)
     pairs = []
-    for four in product(numbers, numbers, numbers, numbers):
-        kind = _kind_of(merger.rows, four)
+    for one in range(merger.commands):
+        for ahead, behind, firsts in middles:
+            if firsts >> one & 1:
+                pairs.extend(_kinds_behind(merger.rows, (one, ahead, behind)))
+    return tuple(pairs)
+
+
+def _kinds_behind(rows, three):
+    """The ascending (queue, kind) of all fours that begin with three commands."""
+    pairs = []
+    for last in range(len(rows)):
+        four = three + (last,)
+        kind = _kind_of(rows, four)
         if kind is not None:
             pairs.append((four, kind))
-    return tuple(pairs)
+    return pairs
 
 
 def uneven_four(merger):
     """(kind, queue) of the first queue of four with a kind, or None."""
-    numbers = list(range(merger.commands))
-    for four in product(numbers, numbers, numbers, numbers):
-        kind = _kind_of(merger.rows, four)
-        if kind is not None:
-            return kind, four
-    return None
+    threes = [(bits_in(firsts)[0], ahead, behind) for ahead, behind, firsts in uneven_middles(merger.rows)]
+    if len(threes) == 0:
+        return None
+    queue, kind = _kinds_behind(merger.rows, min(threes))[0]
+    return kind, queue
 
 
 def four_numbers(merger):
@@ -82,14 +91,13 @@ def four_numbers(merger):
 
 def is_even(merger):
     """Whether all folded queues of each queue are equally long."""
-    return uneven_four(merger) is None
+    return len(uneven_middles(merger.rows)) == 0
 
 
 def need_even(merger):
     """The merger itself if it is even; Uneven for any other."""
-    found = uneven_four(merger)
-    if found is not None:
-        raise Uneven(found[1])
+    if not is_even(merger):
+        raise Uneven(uneven_four(merger)[1])
     return merger
 
 

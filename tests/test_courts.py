@@ -2,7 +2,9 @@
 
 import unittest
 from itertools import product
+from time import perf_counter
 
+from foursfold.classes import class_size
 from foursfold.courts import (
     bag_queue, four_kind, four_numbers, hand_triples, is_even, is_single, merger_word, need_even,
     single_three, uneven_four, uneven_fours,
@@ -10,9 +12,10 @@ from foursfold.courts import (
 from foursfold.errors import BadQueue, Refused, Uneven
 from foursfold.mergers import Merger
 
-from plainly import Drawn, all_mergers, folded_of, left_of
+from evens import drawn_even, drawn_handing
+from plainly import Drawn, all_mergers, drawn_machine, drawn_rows, folded_of, is_sound, left_of, machine_rows
 from samples import CELL, HANDED, KEPT, LAST, LEFT, MIDDLE, RIGHT, SUMS, SWAPPED, TURNS, drawn_ones, named_ones, small_ones
-from samples import sums_to
+from samples import sums_to, two_ends, words_rows
 from wrong import ErrorChecks, alike, any_values, no_lists, queue_fault
 
 KINDS = ("middle", "left", "right")
@@ -121,6 +124,93 @@ class Fours(ErrorChecks, unittest.TestCase):
         self.assertEqual(bag_queue(merger), (10, 11, 10, 11))
         self.assertIs(is_even(Merger([tuple(range(12))] * 12)), True)
         self.assertIs(is_even(Merger(sums_to(12))), False)
+
+
+class ToTwelve(ErrorChecks, unittest.TestCase):
+    """Mergers of one to twelve commands, and a plain look at all queues of four."""
+
+    def check(self, rows):
+        merger = Merger(rows)
+        pairs = [(four, told_kinds(rows, four)) for four in queues_of(rows, 4)]
+        pairs = tuple((four, kinds[0]) for four, kinds in pairs if kinds)
+        self.assertEqual(uneven_fours(merger), pairs)
+        self.assertEqual(uneven_four(merger), pairs[0][::-1] if pairs else None)
+        numbers = tuple([kind for _, kind in pairs].count(kind) for kind in KINDS)
+        self.assertTrue(alike(four_numbers(merger), numbers))
+        self.assertIs(is_even(merger), not pairs)
+        if pairs:
+            self.raises(Uneven, pairs[0][0], need_even, merger)
+            self.assertTrue(alike(uneven_four(merger), uneven_fours(merger)[0][::-1]))
+        else:
+            self.assertIs(need_even(merger), merger)
+        return not pairs, {kind for _, kind in pairs}
+
+    def drawn(self, commands, seed):
+        drawn = Drawn(seed)
+        yield drawn_rows(drawn, commands, commands * commands, 1 + drawn.below(9))
+        yield drawn_rows(drawn, commands, 4 + drawn.below(2 * commands), 1 + drawn.below(9))
+        yield words_rows(drawn, max(2, commands))
+        yield drawn_even(drawn, commands, 5 * commands, 1 + drawn.below(9))
+        yield drawn_handing(drawn, commands, 4 * commands)
+        yield machine_rows(drawn_machine(drawn, min(commands, 5), 3))
+        yield ((None,) * commands,) * commands
+        yield tuple(tuple((one + other) % commands for other in range(commands)) for one in range(commands))
+
+    def test_drawn_mergers(self):
+        seen, even = set(), {True: 0, False: 0}
+        for commands in range(1, 13):
+            for rows in self.drawn(commands, 940 + commands):
+                verdict, kinds = self.check(rows)
+                even[verdict] += 1
+                seen |= kinds
+        self.assertEqual(seen, set(KINDS))
+        self.assertGreater(min(even.values()), 20)
+
+    def test_one_more_merge_makes_it_uneven(self):
+        drawn, seen = Drawn(960), 0
+        while seen < 25:
+            rows = [list(row) for row in drawn_even(drawn, 4 + drawn.below(3), 30, 4)]
+            one, other, end = (drawn.below(len(rows)) for _ in range(3))
+            rows[one][other] = drawn.pick([None, -1, end, end])
+            rows = tuple(map(tuple, rows))
+            if is_sound(rows):
+                seen += not self.check(rows)[0]
+
+
+class Swift(unittest.TestCase):
+    MERGERS = (
+        ([[(one + other) % 12 for other in range(12)] for one in range(12)], (0,)),
+        ([[None] * 12] * 12, (0, 1, 2, 3)),
+    )
+
+    def seconds(self, rows, called):
+        """The best of some tries to call something for 200 mergers made anew."""
+        best = 10
+        for _ in range(5):
+            fresh = [Merger(rows) for _ in range(200)]
+            start = perf_counter()
+            for merger in fresh:
+                called(merger)
+            best = min(best, perf_counter() - start)
+        return best
+
+    def test_two_hundred_calls(self):
+        for rows, queue in self.MERGERS:
+            self.assertTrue(is_even(Merger(rows)))
+            self.assertLess(self.seconds(rows, is_even), 0.1)
+            self.assertLess(self.seconds(rows, need_even), 0.1)
+            self.assertLess(self.seconds(rows, uneven_four), 0.1)
+            self.assertLess(self.seconds(rows, lambda merger: class_size(merger, queue)), 0.25)
+            self.assertLess(self.seconds(rows, lambda merger: Merger(merger.rows)), 0.5)
+
+    def test_both_together(self):
+        for rows, _ in self.MERGERS:
+            both = self.seconds(rows, lambda merger: is_even(Merger(rows)) and class_size(Merger(rows), (0,)))
+            self.assertLess(both, 0.5)
+
+    def test_uneven_ones(self):
+        for rows in (sums_to(12), two_ends()):
+            self.assertLess(self.seconds(rows, uneven_four), 0.2)
 
 
 class Threes(unittest.TestCase):
