@@ -1,7 +1,7 @@
 """Verdicts on mergers: whether it matters which neighbours merge first."""
 
 from foursfold.errors import Refused, Uneven
-from foursfold.fours import bits_in, merging_bits, uneven_middles
+from foursfold.fours import bits_in, first_four, kind_of, kinds_behind, merging_bits, uneven_middles
 from foursfold.mergers import check_queue
 
 KINDS = ("middle", "left", "right")
@@ -27,29 +27,7 @@ def four_kind(merger, queue):
     commands = check_queue(merger, queue)
     if len(commands) != 4:
         raise Refused(queue)
-    return _kind_of(merger.rows, commands)
-
-
-def _kind_of(rows, four):
-    """The kind of a checked queue of four, or None."""
-    one, ahead, behind, other = four
-    middle = rows[ahead][behind]
-    # Unless the two in the middle merge, no two merges overlap; and if they
-    # go, it does not matter which of the two is made.
-    if middle is None or middle == -1:
-        return None
-    merges_one = rows[one][ahead] is not None
-    merges_other = rows[behind][other] is not None
-    # In a sound merger these tell of all three, from either side.
-    all_ahead = rows[one][middle] is not None
-    all_behind = rows[middle][other] is not None
-    if merges_one and merges_other and not all_ahead and not all_behind:
-        return "middle"
-    if merges_other and all_ahead and not merges_one and not all_behind:
-        return "left"
-    if merges_one and all_behind and not merges_other and not all_ahead:
-        return "right"
-    return None
+    return kind_of(merger.rows, commands)
 
 
 def uneven_fours(merger):
@@ -59,28 +37,14 @@ def uneven_fours(merger):
     for one in range(merger.commands):
         for ahead, behind, firsts in middles:
             if firsts >> one & 1:
-                pairs.extend(_kinds_behind(merger.rows, (one, ahead, behind)))
+                pairs.extend(kinds_behind(merger.rows, (one, ahead, behind)))
     return tuple(pairs)
-
-
-def _kinds_behind(rows, three):
-    """The ascending (queue, kind) of all fours that begin with three commands."""
-    pairs = []
-    for last in range(len(rows)):
-        four = three + (last,)
-        kind = _kind_of(rows, four)
-        if kind is not None:
-            pairs.append((four, kind))
-    return pairs
 
 
 def uneven_four(merger):
     """(kind, queue) of the first queue of four with a kind, or None."""
-    threes = [(bits_in(firsts)[0], ahead, behind) for ahead, behind, firsts in uneven_middles(merger.rows)]
-    if len(threes) == 0:
-        return None
-    queue, kind = _kinds_behind(merger.rows, min(threes))[0]
-    return kind, queue
+    found = first_four(merger.rows)
+    return None if found is None else (found[1], found[0])
 
 
 def four_numbers(merger):

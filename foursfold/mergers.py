@@ -142,10 +142,15 @@ def part_merger(merger, commands):
         raise Refused(commands)
     if list(commands) != sorted(set(commands)):
         raise Refused(commands)
+    return Merger(part_rows(merger.rows, commands))
+
+
+def part_rows(rows, commands):
+    """The rows of some commands alone, numbered anew in order."""
     numbers = {command: number for number, command in enumerate(commands)}
     numbers[-1] = -1
     # An end that is not among the commands, and None, have no number.
-    return Merger([[numbers.get(merger.rows[one][other]) for other in commands] for one in commands])
+    return [[numbers.get(rows[one][other]) for other in commands] for one in commands]
 
 
 def beside_mergers(one, other):

@@ -6,8 +6,8 @@ import unittest
 from copy import deepcopy
 
 from foursfold import (
-    chains, classes, courts, errors, folding, handing, heads, houses, kept, lengths, machines, mergers, ownhouse, pushes,
-    queues, senders, stories, stretches, texts, views,
+    barriers, chains, classes, completing, courts, errors, folding, handing, heads, houses, kept, keys, lengths, machines,
+    mergers, ownhouse, piles, pushes, queues, senders, stories, stretches, tellings, texts, views,
 )
 from foursfold.mergers import Merger
 
@@ -92,12 +92,24 @@ INTERFACE = {
         "length_house": "merger * most", "LengthDesk": "merger * most", "parting_queue": "merger one other * most",
     },
     "chains": {"chain_paper": "merger one other * most", "chain_holds": "merger one other value"},
+    "piles": {"left_numbers": "merger length", "mean_left": "merger length"},
+    "tellings": {"left_queue": "merger length left number", "left_place": "merger queue"},
+    "keys": {
+        "Keys": "mergers barriers", "check_items": "keys value", "keyed_merges": "keys items",
+        "merge_items": "keys items one other", "is_keyed_folded": "keys items", "plain_items": "keys items",
+        "left_number": "keys items", "alike_items": "keys one other * most",
+    },
+    "barriers": {
+        "barrier_costs": "keys items", "idle_barriers": "keys items", "batches": "keys items width",
+    },
+    "completing": {"greatest_even": "merger", "even_number": "merger", "evened": "machine * most"},
 }
 # What is told by default with most.
 MOSTS = {
     "folded_queues": 1000, "cut_numbers": 10000, "class_graph": 10000, "class_size": 10000, "class_queue": 10000,
     "class_place": 10000, "is_alike": 10000, "hand_way": 10000, "own_house": 5000, "own_view": 5000,
     "length_house": 5000, "LengthDesk": 5000, "parting_queue": 5000, "chain_paper": 5000,
+    "alike_items": 10000, "evened": 20000,
 }
 
 NONE = None
@@ -105,6 +117,8 @@ NINE = Merger(nine())
 TABLES = [[0, 0, 2], [2, 2, 2]]
 GRAPH = [[[0, 0, 0], [0, 6, 1]], [[0, 1, 0], [0, 5, 1], [1, 4, 1]], [[0, 8, 0], [1, 7, 0]]]
 STORY = ["uneven", [0, 0, 1, 0], [1], [0, 1]]
+KEYS = keys.Keys([Merger(CELL), Merger(TURNS)], Merger(CELL))
+ITEMS = [[0, 0], [1, 1], [0, 1], [None, 0], [0, 1], [1, 0]]
 
 # Calls with lists throughout; {} behind them is what is passed by name alone.
 CALLS = (
@@ -207,6 +221,24 @@ CALLS = (
     (lengths.parting_queue, [Merger(STEPS), [1], [0]], {}),
     (chains.chain_paper, [NINE, [0, 1, 2, 7], [0, 3, 4, 7]], {}),
     (chains.chain_holds, [NINE, [5], [1, 2], ["chain", [[5], [1, 2]]]], {}),
+    (piles.left_numbers, [Merger(TURNS), 3], {}),
+    (piles.mean_left, [Merger(TURNS), 3], {}),
+    (tellings.left_queue, [Merger(TURNS), 3, 1, 4], {}),
+    (tellings.left_place, [Merger(TURNS), [2, 0, 1]], {}),
+    (keys.Keys, [[Merger(CELL), Merger(TURNS)], Merger(CELL)], {}),
+    (keys.check_items, [KEYS, ITEMS], {}),
+    (keys.keyed_merges, [KEYS, ITEMS], {}),
+    (keys.merge_items, [KEYS, ITEMS, 0, 2], {}),
+    (keys.is_keyed_folded, [KEYS, ITEMS], {}),
+    (keys.plain_items, [KEYS, ITEMS], {}),
+    (keys.left_number, [KEYS, ITEMS], {}),
+    (keys.alike_items, [KEYS, ITEMS, [[1, 1], [None, 0], [0, 1], [1, 0]]], {"most": 5}),
+    (barriers.barrier_costs, [KEYS, ITEMS], {}),
+    (barriers.idle_barriers, [KEYS, ITEMS], {}),
+    (barriers.batches, [KEYS, [[0, 0], [1, 1], [0, 1], [1, 0]], 2], {}),
+    (completing.greatest_even, [Merger(SUMS)], {}),
+    (completing.even_number, [Merger(SUMS)], {}),
+    (completing.evened, [[[1, 2, 3, 4, 4], [2, 3, 4, 4, 4]]], {"most": 100}),
 )
 
 
@@ -222,6 +254,8 @@ def looked_at(value):
     """What can be told of an object of the package, or the value itself."""
     if isinstance(value, Merger):
         return value.commands, value.rows
+    if isinstance(value, keys.Keys):
+        return tuple([looked_at(merger) for merger in value.mergers]), looked_at(value.barriers)
     if isinstance(value, senders.Sender):
         return looked_at(value.merger), value.keep, value.held, value.sent, value.came
     if isinstance(value, lengths.LengthDesk):
@@ -249,7 +283,7 @@ class Interface(unittest.TestCase):
                     self.assertEqual(one.kind == one.KEYWORD_ONLY, behind)
                     if one.name == "most" and module != "errors":
                         self.assertEqual(one.default, MOSTS[name])
-                    if one.name == "keep":
+                    if one.name in ("keep", "barriers"):
                         self.assertIsNone(one.default)
 
     def test_every_function_is_called_here(self):

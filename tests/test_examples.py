@@ -127,6 +127,43 @@ CHAPTER_8 = """
     ((), (0, 4), (), (1,))
 """
 
+CHAPTER_9 = """
+    >>> from foursfold.machines import machine_merger
+    >>> from foursfold.piles import left_numbers, mean_left
+    >>> from foursfold.tellings import left_place, left_queue
+    >>> turns = machine_merger([(1, 2, 0), (2, 0, 1), (0, 0, 0)])
+    >>> left_numbers(turns, 2), mean_left(turns, 2)
+    ((2, 5, 2), (1, 1))
+    >>> left_queue(turns, 2, 2, 1), left_place(turns, (1, 0))
+    ((2, 1), (0, 1))
+"""
+
+CHAPTER_10 = """
+    >>> from foursfold.barriers import barrier_costs, batches, idle_barriers
+    >>> from foursfold.keys import Keys, keyed_merges, left_number, merge_items, plain_items
+    >>> from foursfold.mergers import Merger
+    >>> cell = Merger([(None, -1), (-1, None)])
+    >>> keys = Keys([cell, cell], Merger([(0,)]))
+    >>> items = ((0, 0), (1, 1), (0, 1), (None, 0), (0, 1), (1, 0))
+    >>> keyed_merges(keys, items), merge_items(keys, items, 0, 2)
+    (((0, 2),), ((1, 1), (None, 0), (0, 1), (1, 0)))
+    >>> left_number(keys, items), idle_barriers(keys, items), plain_items(keys, items[:3] + items[4:])
+    (4, (), ((0, 1),))
+    >>> barrier_costs(keys, items[:3]), batches(keys, items[:3] + items[4:], 3)
+    ((0, 2, 2, 0), (3, (3,)))
+"""
+
+CHAPTER_11 = """
+    >>> from foursfold.completing import even_number, evened, greatest_even
+    >>> from foursfold.mergers import Merger
+    >>> none = None
+    >>> sums = Merger([[1, 2, none], [2, none, none], [none, none, none]])
+    >>> greatest_even(sums), even_number(sums)
+    ((0, 2), 5)
+    >>> evened([(1, 2, 3, 4, 4), (2, 3, 4, 4, 4)])
+    ((0, 1), (1, 1))
+"""
+
 
 class Examples(unittest.TestCase):
     def check(self, text, many):
@@ -156,8 +193,17 @@ class Examples(unittest.TestCase):
     def test_chapter_8(self):
         self.check(CHAPTER_8, 12)
 
+    def test_chapter_9(self):
+        self.check(CHAPTER_9, 6)
+
+    def test_chapter_10(self):
+        self.check(CHAPTER_10, 9)
+
+    def test_chapter_11(self):
+        self.check(CHAPTER_11, 6)
+
     def test_readme(self):
-        self.check(README.read_text(encoding="utf-8"), 15)
+        self.check(README.read_text(encoding="utf-8"), 20)
 
 
 if __name__ == "__main__":
