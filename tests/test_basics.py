@@ -6,8 +6,9 @@ import unittest
 from copy import deepcopy
 
 from foursfold import (
-    barriers, chains, classes, completing, courts, errors, folding, handing, heads, houses, kept, keys, lengths, machines,
-    mergers, ownhouse, piles, pushes, queues, senders, stories, stretches, tellings, texts, views,
+    barriers, chains, classes, completing, courts, desk, errors, folding, handing, heads, houses, joinings, kept, keys,
+    lengths, live, machines, menus, mergers, namings, ownhouse, piles, pushes, queues, senders, stories, stretches,
+    tellings, texts, views,
 )
 from foursfold.mergers import Merger
 
@@ -103,13 +104,33 @@ INTERFACE = {
         "barrier_costs": "keys items", "idle_barriers": "keys items", "batches": "keys items width",
     },
     "completing": {"greatest_even": "merger", "even_number": "merger", "evened": "machine * most"},
+    "namings": {"renaming": "one other", "own_renamings": "merger * most"},
+    "joinings": {
+        "tree_queue": "merger tree", "tree_fold": "merger tree", "struck_lengths": "merger queue",
+        "put_lengths": "merger queue command", "cut_lengths": "merger queue",
+    },
+    "live": {"Live": "merger queue"},
+    "menus": {
+        "Menu": "values changes", "whole_menu": "values", "row_after": "menu row queue", "folded_stream": "menu stream",
+        "rows_after": "menu rows stream",
+    },
+    "desk": {"Desk": "text"},
+}
+METHODS = {
+    senders.Sender: {"put": "command"},
+    lengths.LengthDesk: {"put": "command"},
+    live.Live: {
+        "undo": "", "redo": "", "within": "work", "put": "command", "put_amid": "at command",
+        "change_amid": "at command", "strike_amid": "at", "fold_all": "", "left": "",
+    },
+    desk.Desk: {"say": "line"},
 }
 # What is told by default with most.
 MOSTS = {
     "folded_queues": 1000, "cut_numbers": 10000, "class_graph": 10000, "class_size": 10000, "class_queue": 10000,
     "class_place": 10000, "is_alike": 10000, "hand_way": 10000, "own_house": 5000, "own_view": 5000,
     "length_house": 5000, "LengthDesk": 5000, "parting_queue": 5000, "chain_paper": 5000,
-    "alike_items": 10000, "evened": 20000,
+    "alike_items": 10000, "evened": 20000, "own_renamings": 5000,
 }
 
 NONE = None
@@ -119,6 +140,8 @@ GRAPH = [[[0, 0, 0], [0, 6, 1]], [[0, 1, 0], [0, 5, 1], [1, 4, 1]], [[0, 8, 0], 
 STORY = ["uneven", [0, 0, 1, 0], [1], [0, 1]]
 KEYS = keys.Keys([Merger(CELL), Merger(TURNS)], Merger(CELL))
 ITEMS = [[0, 0], [1, 1], [0, 1], [None, 0], [0, 1], [1, 0]]
+CHANGES = [["put", 0], ["put", 1], ["set", 0], ["set", 1], ["add", 1], ["drop"]]
+STREAM = [[1, 4], [3, 1], [1, 4], [3, 5]]
 
 # Calls with lists throughout; {} behind them is what is passed by name alone.
 CALLS = (
@@ -239,6 +262,20 @@ CALLS = (
     (completing.greatest_even, [Merger(SUMS)], {}),
     (completing.even_number, [Merger(SUMS)], {}),
     (completing.evened, [[[1, 2, 3, 4, 4], [2, 3, 4, 4, 4]]], {"most": 100}),
+    (namings.renaming, [Merger(TURNS), mergers.named_merger(Merger(TURNS), [1, 2, 0])], {}),
+    (namings.own_renamings, [Merger(TURNS)], {"most": 2}),
+    (joinings.tree_queue, [Merger(TURNS), [[0, 1], [], [2, [0]]]], {}),
+    (joinings.tree_fold, [Merger(TURNS), [[0, 1], [], [2, [0]]]], {}),
+    (joinings.struck_lengths, [Merger(TURNS), [0, 1, 2]], {}),
+    (joinings.put_lengths, [Merger(TURNS), [0, 1, 2], 1], {}),
+    (joinings.cut_lengths, [Merger(TURNS), [0, 1, 2]], {}),
+    (live.Live, [Merger(TURNS), [0, 1, 2]], {}),
+    (menus.Menu, [2, CHANGES], {}),
+    (menus.whole_menu, [2], {}),
+    (menus.row_after, [menus.Menu(2, CHANGES), 1, [0, 4]], {}),
+    (menus.folded_stream, [menus.Menu(2, CHANGES), STREAM], {}),
+    (menus.rows_after, [menus.Menu(2, CHANGES), [[1, 0], [2, 1]], STREAM], {}),
+    (desk.Desk, ["merger 2\n- x\nx -"], {}),
 )
 
 
@@ -260,6 +297,12 @@ def looked_at(value):
         return looked_at(value.merger), value.keep, value.held, value.sent, value.came
     if isinstance(value, lengths.LengthDesk):
         return value.note, value.length
+    if isinstance(value, live.Live):
+        return looked_at(value.merger), value.queue
+    if isinstance(value, menus.Menu):
+        return value.row_values, value.changes, value.tables, looked_at(value.merger)
+    if isinstance(value, desk.Desk):
+        return looked_at(value.live)
     return value
 
 
@@ -294,8 +337,12 @@ class Interface(unittest.TestCase):
                     self.assertIn(getattr(defined(module), name), called)
 
     def test_methods_stand_in_their_classes(self):
-        for name, maker in (("put", senders.Sender), ("put", lengths.LengthDesk)):
-            self.assertEqual(list(inspect.signature(vars(maker)[name]).parameters), ["self", "command"])
+        for maker, methods in METHODS.items():
+            for name, told in methods.items():
+                parameters = list(inspect.signature(vars(maker)[name]).parameters)
+                self.assertEqual(parameters, ["self"] + told.split())
+        for maker in (Merger, keys.Keys):
+            self.assertIn("__eq__", vars(maker))
 
     def test_merger_has_its_attributes(self):
         self.assertEqual(vars(Merger(CELL)), {"commands": 2, "rows": CELL})

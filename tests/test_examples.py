@@ -156,12 +156,34 @@ CHAPTER_10 = """
 CHAPTER_11 = """
     >>> from foursfold.completing import even_number, evened, greatest_even
     >>> from foursfold.mergers import Merger
+    >>> from foursfold.namings import own_renamings, renaming
     >>> none = None
     >>> sums = Merger([[1, 2, none], [2, none, none], [none, none, none]])
     >>> greatest_even(sums), even_number(sums)
     ((0, 2), 5)
     >>> evened([(1, 2, 3, 4, 4), (2, 3, 4, 4, 4)])
     ((0, 1), (1, 1))
+    >>> renaming(sums, Merger([[none, none, 1], [none, none, none], [1, none, 0]])), own_renamings(sums)
+    ((2, 0, 1), 1)
+"""
+
+CHAPTER_12 = """
+    >>> from foursfold.courts import uneven_four
+    >>> from foursfold.desk import Desk
+    >>> from foursfold.joinings import cut_lengths, put_lengths, struck_lengths, tree_fold
+    >>> from foursfold.menus import Menu, folded_stream, rows_after, whole_menu
+    >>> from foursfold.mergers import Merger
+    >>> turns = Merger([(None, -1), (-1, None)])
+    >>> tree_fold(turns, [[0, 1], [0, [0]]]), struck_lengths(turns, (0, 1, 0)), cut_lengths(turns, (0, 1))
+    ((0, 0), (0, 2, 0), (0, 2, 0))
+    >>> uneven_four(Menu(7, [("add", 1), ("add", 2), ("add", 3)]).merger)
+    ('middle', (0, 0, 1, 0))
+    >>> menu, stream = whole_menu(2), [(1, 4), (3, 1), (1, 4), (3, 5)]
+    >>> folded_stream(menu, stream), rows_after(menu, [(1, 0)], stream)
+    (((3, (5,)),), ((1, 0),))
+    >>> desk = Desk("merger 2\\n- x\\nx -")
+    >>> [desk.say(line) for line in ("put 0", "put 1", "amid 1 0", "struck", "depth", "ring", "word")]
+    ['1', '0', '1', '0 0 2', 'none', 'ring', 'clear']
 """
 
 
@@ -200,10 +222,13 @@ class Examples(unittest.TestCase):
         self.check(CHAPTER_10, 9)
 
     def test_chapter_11(self):
-        self.check(CHAPTER_11, 6)
+        self.check(CHAPTER_11, 8)
+
+    def test_chapter_12(self):
+        self.check(CHAPTER_12, 12)
 
     def test_readme(self):
-        self.check(README.read_text(encoding="utf-8"), 20)
+        self.check(README.read_text(encoding="utf-8"), 30)
 
 
 if __name__ == "__main__":

@@ -152,7 +152,7 @@ class Language(unittest.TestCase):
                 if isinstance(node, (ast.FunctionDef, ast.ClassDef)):
                     names.append(node.name)
                 elif isinstance(node, ast.Assign):
-                    ast.literal_eval(node.value)
+                    self.check_table(path, node.value, names)
                     names.extend(target.id for target in node.targets)
                     if len(node.targets) != 1 or isinstance(node.value, (ast.Set, ast.List)):
                         self.fault("L3", path, node)
@@ -161,6 +161,16 @@ class Language(unittest.TestCase):
                 elif not (isinstance(node, ast.Expr) and node is tree.body[0]):
                     self.fault("L3", path, node)
             self.assertEqual(len(names), len(set(names)), path.name)
+
+    def check_table(self, path, value, names):
+        """A value can be told; or it is a table of functions that stand above it."""
+        if isinstance(value, ast.Dict) and all(isinstance(part, ast.Name) for part in value.values):
+            for key, part in zip(value.keys, value.values):
+                ast.literal_eval(key)
+                if part.id not in names:
+                    self.fault("L3", path, part)
+        else:
+            ast.literal_eval(value)
 
     def test_functions_and_classes(self):
         for path, node in self.each(ast.FunctionDef):
