@@ -10,9 +10,9 @@ from foursfold.piles import LENGTH_LIMIT, Piles, check_length
 class Tellings:
     """Counts what goes on from a pile: the queues that leave so many in the end."""
 
-    def __init__(self, rows, length, left):
+    def __init__(self, rows, length, wanted):
         self.rows = rows
-        self.left = left
+        self.wanted = wanted
         self.piles = Piles(rows, length)
         self.known = {}
 
@@ -25,7 +25,7 @@ class Tellings:
     def _count(self, pile, many):
         """The same, told by when the last command of a pile is changed first."""
         top = self.piles.floor if len(pile) == 0 else pile[-1]
-        wanted = self.left - len(pile)
+        wanted = self.wanted - len(pile)
         # What is left behind a top that is never changed is at most what comes.
         total = self.piles.lefts[top][many][wanted] if 0 <= wanted <= many else 0
         for first in range(1, many + 1):

@@ -133,8 +133,11 @@ def drawn_machines(seed, many):
     drawn = Drawn(seed)
     found = []
     while len(found) < many:
-        kind = len(found) % 4
-        if kind == 0:
+        kind = len(found) % 5
+        if kind == 4:
+            turns = sorted({1 + drawn.below(9) for _ in range(2 + drawn.below(4))})
+            found.append(tuple(tuple((state + turn) % 10 for state in range(10)) for turn in turns))
+        elif kind == 0:
             found.append(drawn_machine(drawn, 1 + drawn.below(3), 3))
         elif kind == 1:
             found.append(counters(5 + drawn.below(4), sorted({1 + drawn.below(2), 1 + drawn.below(3)})))
@@ -193,6 +196,12 @@ class Further(ErrorChecks, unittest.TestCase):
                 self.assertTrue(all(None not in row for row in rows))
                 self.assertIsNotNone(evened(machine))
 
+    def test_turns_of_a_circle(self):
+        # Two of four may go, though others of them do not merge: 1, 2, 7 and 2 here.
+        turns = [tuple((state + turn) % 10 for state in range(10)) for turn in (1, 2, 3, 4, 7)]
+        self.assertFalse(is_even(machine_merger(turns)))
+        self.assertEqual(evened(turns), evened_plainly(tuple(turns), 10 ** 6)[0])
+
     def test_none_needed(self):
         self.assertEqual(evened([list(table) for table in THREES]), ())
         self.assertEqual(evened(((0,) * 60,)), ())
@@ -248,6 +257,9 @@ class Further(ErrorChecks, unittest.TestCase):
                 except TooGreat as error:
                     self.assertEqual(error.most, most)
                     self.assertLess(most, total)
+        # The search does not go on for ever.
+        for most in (1, 3, 10):
+            self.raises(TooGreat, most, evened, counters(60, (1, 3, 4)), most=most)
         with self.assertRaises(TypeError):
             evened(THREES, 5)
 

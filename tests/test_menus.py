@@ -140,7 +140,7 @@ class Menus(ErrorChecks, unittest.TestCase):
             ("put", 0), ["put", 2], ("put", 3), ("put", -1), ("put", True), ("put", None), ("put",), ("put", 0, 0), "put",
             ("set", 2), ("set", 3), ("set", False), ("set", "0"), ("set", HUGE), ("add", 1), ("add", 2), ("add", 0),
             ("add", 3), ("add", True), ("add",), ("drop",), ["drop"], ("drop", 0), "drop", ("Drop",), (), [], None, 0,
-            ("row", 0), (0, "put"), (None, 0), (["put"], 0), (Merger(CELL), 0), ("put", Merger(CELL)), ("put", [0]),
+            ("row", 0), ("row", 1), ("", 1), (None, 1), (["add"], 1), (1, 1), (0, "put"), (None, 0), (["put"], 0), (Merger(CELL), 0), ("put", Merger(CELL)), ("put", [0]),
             ("", 0), ("put ", 0),
         ]
         tried = any_values() + [[change] for change in changes] + [(("put", 1), change) for change in changes]
