@@ -1,6 +1,9 @@
 """Any values, as point 1 of the document calls them."""
 
 from foursfold.errors import BadQueue, NoCommand, Refused
+from foursfold.keys import Keys
+from foursfold.live import Live
+from foursfold.menus import whole_menu
 from foursfold.mergers import Merger
 
 from plainly import HUGE, nested
@@ -11,7 +14,8 @@ def any_values():
     return [
         None, True, False, -1, 0, 1, 2, -2, 11, 12, 60, HUGE, -HUGE, 2 ** 64,
         "", "0", "-1", "x", "-", "uneven", "0 1", "\n", "merger 1\n-",
-        Merger([(None,)]), BadQueue(-1), NoCommand([0]),
+        Merger([(None,)]), BadQueue(-1), NoCommand([0]), Keys([Merger([(None,)])]), Live(Merger([(None,)])),
+        [whole_menu(1)], [0, Live(Merger([(None,)]), (0,))], (Keys([Merger([(-1,)])]), 0),
         [], (), [0], (0,), [0, 0], (0, 1), (0, 0, 0), [True], (False,), [True, 0], (0, None), [None], (-1,), [-2],
         ["0"], "01", ("0", "1"), [[]], ((),), [[0]], ((0,),), [(0, 0)], [[0], [0]], [0, [0]], ([0], 0),
         [HUGE], [0, HUGE], [0, -HUGE], [Merger([(None,)])], [0, Merger([(None,)])],
